@@ -1,0 +1,1 @@
+"""Carriedfields: what an object must take along when it is copied, saved, or moved to an edited class."""
