@@ -5,7 +5,7 @@ import inspect
 import pathlib
 import unittest
 
-from carriedfields import errors, kinds, libraries
+from carriedfields import kinds, libraries
 
 PACKAGE = pathlib.Path(kinds.__file__).resolve().parent
 LIBRARY = ("heapq", "math", "itertools", "collections")
