@@ -2,6 +2,7 @@
 
 from carriedfields.levels import Body, is_body_right
 from carriedfields.lines import constants_of, levels_of, line_of, methods_of
+from carriedfields.values import is_mark_or_none
 
 MOST_FIELDS = 5
 MOST_METHODS = 6
@@ -11,11 +12,6 @@ def are_bases_right(kind, earlier):
     """Whether each base is an earlier kind and stands once."""
     names = [other.name for other in earlier]
     return all([base in names for base in kind.bases]) and len(set(kind.bases)) == len(kind.bases)
-
-
-def is_mark_or_none(value, marks):
-    """Whether what a constant or a field is given, None or a word, is None or a mark."""
-    return value is None or value in marks
 
 
 def is_first_right(first, line, marks):

@@ -32,9 +32,9 @@ def is_expression(value, makers=MOST_MAKERS):
     return all([is_expression(part, makers - 1) for part in value[1:]])
 
 
-def is_test(one, sign, other):
+def is_test(one, sign, other, makers=MOST_MAKERS):
     """Whether any three values are an expression, a sign and an expression."""
-    return is_expression(one) and sign in SIGNS and is_expression(other)
+    return is_expression(one, makers) and sign in SIGNS and is_expression(other, makers)
 
 
 def is_if(row):

@@ -2,7 +2,7 @@
 
 from carriedfields.errors import BadLibrary, NoKind
 from carriedfields.faults import first_fault
-from carriedfields.lines import firsts_of, levels_of, line_of, methods_of
+from carriedfields.lines import constants_of, firsts_of, levels_of, line_of, methods_of, versions_of
 from carriedfields.words import are_different_words
 
 MOST_KINDS = 4
@@ -63,6 +63,10 @@ class Shape:
         self.fields = tuple([(name, levels[name]) for name in names])
         self.firsts = tuple([firsts[name] for name in names])
         self.face = (method_faces(line), tuple(sorted(library.marks)))
+        # What runs and passages ask for again and again.
+        self.constants = constants_of(line)
+        self.versions = versions_of(line)
+        self.carries = tuple([kind.carry for kind in line if kind.carry is not None])
 
     def __eq__(self, other):
         return isinstance(other, Shape) and self.library == other.library and self.name == other.name

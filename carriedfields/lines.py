@@ -66,3 +66,12 @@ def methods_of(line):
         for method in kind.methods:
             found.setdefault(method.name, method)
     return found
+
+
+def versions_of(line):
+    """For each name of a method of a line its versions, the first one first."""
+    found = {}
+    for kind in line:
+        for method in kind.methods:
+            found[method.name] = found.get(method.name, ()) + (method,)
+    return found

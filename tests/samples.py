@@ -5,6 +5,7 @@ import unittest
 from carriedfields.errors import BadName, CarriedError
 from carriedfields.kinds import Carry, Kind, Method
 from carriedfields.libraries import Library
+from carriedfields.texts import read_library
 
 RESERVED = (
     "alone carry class cls def else enter if is keep leave made marks none not refuse return save"
@@ -36,6 +37,56 @@ def nested_if(depth, rows=()):
 
 
 LIBRARY = Library(Kind("box", fields=(("item", 0, None),)), marks=("draft",))
+
+# The example of point 15.
+SHEET_TEXT = """marks draft done
+class sheet:
+    FIRST = draft
+    item = none
+    style = cls.FIRST
+    shown: 1
+    def put(x):
+        self.item = x
+        self.shown = none
+    def rest(x):
+        self.style = x
+    def show() -> 1:
+        if self.shown is none:
+            self.shown = page(self.item, self.style)
+        return self.shown
+    carry:
+        save item style"""
+
+
+def sheet_library():
+    """The library of the example of point 15."""
+    put = Method("put", "x", rows=(("set", "item", "x"), ("set", "shown", None)))
+    rest = Method("rest", "x", rows=(("set", "style", "x"),))
+    made = ("set", "shown", ("page", ("self", "item"), ("self", "style")))
+    rows = (("if", ("self", "shown"), "is", None, (made,), ()), ("return", ("self", "shown")))
+    kind = Kind(
+        "sheet", constants=(("FIRST", "draft"),),
+        fields=(("item", 0, None), ("style", 0, ("cls", "FIRST")), ("shown", 1, None)),
+        methods=(put, rest, Method("show", rows=rows, level=1)), carry=Carry(save=("item", "style")),
+    )
+    return Library(kind, marks=("draft", "done"))
+
+
+def shape_in(*lines, marks="red blue", name="k"):
+    """The shape of the class k whose parts are written in these lines, or of another class in them."""
+    indented = [f"    {line}" if not line.startswith("class ") else line for line in lines]
+    return read_library("\n".join([f"marks {marks}".strip(), "class k:", *indented]))[name]
+
+
+def shape_of(*methods, fields=(), marks=(), constants=(), carry=None):
+    """The shape of a kind that stands alone."""
+    kind = Kind("k", constants=constants, fields=fields, methods=methods, carry=carry)
+    return Library(kind, marks=marks)["k"]
+
+
+def plain_fields(names, first=None):
+    """Fields of level 0."""
+    return tuple((name, 0, first) for name in names)
 
 # Values that are no words, no constants, no tuples of words, no rows and no expressions but None.
 ODD = (

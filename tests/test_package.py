@@ -5,7 +5,7 @@ import inspect
 import pathlib
 import unittest
 
-from carriedfields import kinds, libraries
+from carriedfields import kinds, libraries, passages, running, texts, worlds
 
 PACKAGE = pathlib.Path(kinds.__file__).resolve().parent
 LIBRARY = ("heapq", "math", "itertools", "collections")
@@ -24,28 +24,75 @@ def parameters(function):
 
 
 class InterfaceTest(unittest.TestCase):
-    def test_where_the_classes_are_defined(self):
-        for module, names in ((kinds, ("Method", "Carry", "Kind")), (libraries, ("Library", "Shape"))):
+    def test_where_the_classes_and_functions_are_defined(self):
+        for module, names in (
+            (kinds, ("Method", "Carry", "Kind")), (libraries, ("Library", "Shape")),
+            (texts, ("library_text", "read_library")),
+            (running, ("Run",)), (passages, ("Passage", "Route", "Saved")),
+            (worlds, ("Callers", "world_of", "calls_at", "Worlds")),
+        ):
             for name in names:
                 self.assertEqual(module.__name__, getattr(module, name).__module__)
 
     def test_parameters(self):
-        self.assertEqual("(name, *params, rows=(), level=0, role=None)", parameters(kinds.Method))
-        self.assertEqual("(*, keep=(), save=(), again=(), more=True)", parameters(kinds.Carry))
-        self.assertEqual("(name, *bases, constants=(), fields=(), methods=(), carry=None)", parameters(kinds.Kind))
-        self.assertEqual("(*kinds, marks=())", parameters(libraries.Library))
+        for function, written in (
+            (kinds.Method, "(name, *params, rows=(), level=0, role=None)"),
+            (kinds.Carry, "(*, keep=(), save=(), again=(), more=True)"),
+            (kinds.Kind, "(name, *bases, constants=(), fields=(), methods=(), carry=None)"),
+            (libraries.Library, "(*kinds, marks=())"),
+            (texts.library_text, "(library)"),
+            (texts.read_library, "(text)"),
+            (running.Run, "(shape)"),
+            (running.Run.set_up, "(shape, state)"),
+            (running.Run.call, "(self, name, *things)"),
+            (running.Run.play, "(self, history)"),
+            (passages.Passage, "(shape, *, keep=(), save=(), again=(), memo=True, when=(), into=None, names=())"),
+            (passages.Passage.__call__, "(self, values)"),
+            (passages.Passage.of, "(shape, *, memo=True, when=())"),
+            (passages.Passage.saved, "(self, values)"),
+            (passages.Passage.loaded, "(self, saved)"),
+            (passages.Route.__call__, "(self, values)"),
+            (passages.Saved.read, "(passage, text)"),
+            (worlds.Callers, "(*, times=None, look='equal', methods=None, fresh=False)"),
+            (worlds.world_of, "(shape, state)"),
+            (worlds.calls_at, "(shape, state, *, callers=None)"),
+            (worlds.Worlds, "(shape, *, callers=None, most=400)"),
+            (worlds.Worlds.depth, "(self, k)"),
+            (worlds.Worlds.history, "(self, k)"),
+            (worlds.Worlds.after, "(self, k, call)"),
+        ):
+            self.assertEqual(written, parameters(function))
 
     def test_methods_stand_in_the_classes_themselves(self):
-        for name in ("Method", "Carry", "Kind"):
-            self.assertIn("__eq__", vars(getattr(kinds, name)))
-        for name in ("__len__", "__contains__", "__getitem__", "__eq__"):
-            self.assertIn(name, vars(libraries.Library))
-        self.assertIn("__eq__", vars(libraries.Shape))
+        for owner, names in (
+            (kinds.Method, ("__eq__",)), (kinds.Carry, ("__eq__",)), (kinds.Kind, ("__eq__",)),
+            (libraries.Library, ("__len__", "__contains__", "__getitem__", "__eq__")), (libraries.Shape, ("__eq__",)),
+            (running.Run, ("__init__", "state", "is_within", "set_up", "call", "play")),
+            (passages.Passage, ("__init__", "__call__", "__rshift__", "__len__", "__eq__", "of", "saved", "loaded")),
+            (passages.Route, ("__call__", "__rshift__", "__len__", "__eq__")),
+            (passages.Saved, ("__getitem__", "__contains__", "__len__", "__eq__", "__str__", "read")),
+            (worlds.Callers, ("__init__", "__eq__")),
+            (worlds.Worlds, ("__init__", "__len__", "__getitem__", "__contains__", "depth", "history", "after")),
+        ):
+            for name in names:
+                self.assertIn(name, vars(owner))
+        for owner, name in ((running.Run, "set_up"), (passages.Passage, "of"), (passages.Saved, "read")):
+            self.assertIsInstance(vars(owner)[name], classmethod)
+        for name in ("state", "is_within"):
+            self.assertIsInstance(vars(running.Run)[name], property)
 
     def test_attributes_are_set_on_each_object(self):
         library = libraries.Library(kinds.Kind("a"))
-        self.assertLessEqual({"kinds", "marks"}, set(vars(library)))
-        self.assertLessEqual({"library", "name", "line", "fields", "firsts", "face"}, set(vars(library["a"])))
+        passage = passages.Passage(library["a"])
+        for thing, names in (
+            (library, {"kinds", "marks"}), (library["a"], {"library", "name", "line", "fields", "firsts", "face"}),
+            (running.Run(library["a"]), {"shape"}),
+            (passage, {"shape", "into", "keep", "save", "names", "again", "memo", "when"}),
+            (passages.Passage.of(library["a"]), {"shape", "into", "keep", "save", "names", "again", "memo", "when"}),
+            (passage >> passage, {"legs", "shape", "into"}), (passage.saved(()), {"passage", "fields"}),
+            (worlds.Callers(), {"times", "look", "methods", "fresh"}),
+        ):
+            self.assertLessEqual(names, set(vars(thing)))
 
 
 class LanguageTest(unittest.TestCase):
@@ -59,8 +106,8 @@ class LanguageTest(unittest.TestCase):
     def test_files(self):
         for path in self.files:
             self.assertEqual(".py", path.suffix)
-        for name in ("__init__.py", "errors.py", "kinds.py", "libraries.py"):
-            self.assertIn(name, self.texts)
+        for name in ("__init__", "errors", "kinds", "libraries", "texts", "running", "passages", "worlds"):
+            self.assertIn(f"{name}.py", self.texts)
 
     def test_sizes(self):
         for name, text in self.texts.items():
@@ -90,6 +137,30 @@ class LanguageTest(unittest.TestCase):
                     self.assertNotIsInstance(node.value, float, (name, node.lineno))
                 if isinstance(node, ast.Compare) and isinstance(node.ops[0], (ast.Is, ast.IsNot)):
                     self.assertIn(ast.unparse(node.comparators[0]), ("None", "True", "False"), (name, node.lineno))
+
+    def test_what_the_language_does_not_have(self):
+        barred = (ast.Lambda, ast.GeneratorExp)
+        for name, tree in self.trees():
+            for node in ast.walk(tree):
+                place = (name, getattr(node, "lineno", 0))
+                self.assertNotIsInstance(node, barred, place)
+                for decorator in getattr(node, "decorator_list", []):
+                    self.assertIn(ast.unparse(decorator), ("property", "classmethod"), place)
+                if isinstance(node, ast.ExceptHandler):
+                    self.assertIn(ast.unparse(node.type), ("NoForm", "CarriedError"), place)
+                if isinstance(node, ast.Constant) and isinstance(node.value, str):
+                    self.assertNotIn("%", node.value, place)
+
+    def test_imports_go_one_way(self):
+        needs = {}
+        for name, tree in self.trees():
+            modules = [node.module for node in ast.walk(tree) if isinstance(node, ast.ImportFrom)]
+            needs[name] = {f"{module.partition('.')[2]}.py" for module in modules}
+        while needs:
+            free = [name for name in needs if not needs[name] & set(needs)]
+            self.assertTrue(free, needs)
+            for name in free:
+                del needs[name]
 
     def test_names_of_builtins(self):
         builtins = set(dir(__import__("builtins"))) - {"_"}
