@@ -18,13 +18,13 @@ class Renaming:
             return (trace[0], *[self.new_trace(part) for part in trace[1:]])
         return trace
 
-    def new_value(self, value):
-        """The value with new contents and a new number."""
+    def new_value(self, value, side=0):
+        """The value with new contents and a new number; copies of one side are never those of another one."""
         if not has_number(value):
             return self.new_trace(value)
         content, number = value
         is_own = number >= 0
-        alike = self.numbers.setdefault((content, is_own), {})
+        alike = self.numbers.setdefault((content, None if is_own else side), {})
         place = alike.setdefault(number, len(alike))
         return (self.new_trace(content), place if is_own else -1 - place)
 

@@ -41,6 +41,32 @@ DOCUMENT = """
 >>> worlds = Worlds(shape)
 >>> [len(worlds), worlds[1], worlds.depth(1)]
 [2, (((0, 0),), False), 1]
+
+>>> from carriedfields.kinds import Kind, Method
+>>> from carriedfields.libraries import Library
+>>> from carriedfields.passages import Passage
+>>> from carriedfields.pairs import Life
+>>> from carriedfields.comparing import compare, is_paper
+>>> put = Method("put", "x", rows=(("set", "item", "x"),))
+>>> get = Method("get", rows=(("return", ("self", "item")),))
+>>> shape = Library(Kind("box", fields=(("item", 0, None),), methods=(put, get)))["box"]
+>>> one, other = Life(shape), Life(shape, Passage(shape))
+>>> history = (("call", "put", (4, 1)), ("pass",), ("call", "get"))
+>>> [compare(one, other)[0], len(compare(one, other)[1]), is_paper(one, other, ("parted", history))]
+['parted', 3, True]
+
+>>> from carriedfields.kinds import Kind, Method
+>>> from carriedfields.libraries import Library
+>>> from carriedfields.keeping import KeptSets
+>>> put = Method("put", "x", rows=(("set", "item", "x"), ("set", "last", None)))
+>>> get = Method("get", rows=(("return", ("self", "item")),))
+>>> shape = Library(Kind("box", fields=(("item", 0, None), ("last", 0, None)), methods=(put, get)))["box"]
+>>> sets = KeptSets(shape)
+>>> [sets.good, sets.least, sets.needed]
+[(('item',), ('item', 'last')), (('item',),), ('item',)]
+
+>>> sets.cheapest({"item": 3, "last": 0})
+(3, (('item',), ('item', 'last')))
 """
 
 

@@ -5,7 +5,7 @@ import inspect
 import pathlib
 import unittest
 
-from carriedfields import kinds, libraries, passages, running, texts, worlds
+from carriedfields import comparing, keeping, kinds, libraries, moments, pairs, passages, running, texts, worlds
 
 PACKAGE = pathlib.Path(kinds.__file__).resolve().parent
 LIBRARY = ("heapq", "math", "itertools", "collections")
@@ -30,6 +30,8 @@ class InterfaceTest(unittest.TestCase):
             (texts, ("library_text", "read_library")),
             (running, ("Run",)), (passages, ("Passage", "Route", "Saved")),
             (worlds, ("Callers", "world_of", "calls_at", "Worlds")),
+            (pairs, ("Life", "Pair")), (comparing, ("compare", "is_paper")),
+            (moments, ("Moments", "pattern", "is_moments")), (keeping, ("KeptSets", "is_kept_sets")),
         ):
             for name in names:
                 self.assertEqual(module.__name__, getattr(module, name).__module__)
@@ -60,6 +62,22 @@ class InterfaceTest(unittest.TestCase):
             (worlds.Worlds.depth, "(self, k)"),
             (worlds.Worlds.history, "(self, k)"),
             (worlds.Worlds.after, "(self, k, call)"),
+            (pairs.Life, "(shape, route=None)"),
+            (pairs.Pair, "(one, other, *, callers=None)"),
+            (pairs.Pair.set_up, "(one, other, joint, *, callers=None)"),
+            (pairs.Pair.steps, "(self)"),
+            (pairs.Pair.do, "(self, step)"),
+            (pairs.Pair.play, "(self, history)"),
+            (comparing.compare, "(one, other, *, callers=None, most=400, start=None)"),
+            (comparing.is_paper, "(one, other, thing, *, callers=None, start=None)"),
+            (moments.Moments, "(route, *, callers=None, most=400)"),
+            (moments.Moments.safe, "(self)"),
+            (moments.pattern, "(shape, state)"),
+            (moments.is_moments, "(route, thing, *, callers=None, most=400)"),
+            (keeping.KeptSets, "(shape, *, by='save', again=(), memo=True, when=(), callers=None, most=400)"),
+            (keeping.KeptSets.cheapest, "(self, costs)"),
+            (keeping.is_kept_sets,
+             "(shape, thing, *, by='save', again=(), memo=True, when=(), callers=None)"),
         ):
             self.assertEqual(written, parameters(function))
 
@@ -73,13 +91,21 @@ class InterfaceTest(unittest.TestCase):
             (passages.Saved, ("__getitem__", "__contains__", "__len__", "__eq__", "__str__", "read")),
             (worlds.Callers, ("__init__", "__eq__")),
             (worlds.Worlds, ("__init__", "__len__", "__getitem__", "__contains__", "depth", "history", "after")),
+            (pairs.Life, ("__init__", "__eq__")),
+            (pairs.Pair, ("__init__", "set_up", "joint", "states", "steps", "do", "play")),
+            (moments.Moments, ("__init__", "__len__", "safe")),
+            (keeping.KeptSets, ("__init__", "__contains__", "cheapest")),
         ):
             for name in names:
                 self.assertIn(name, vars(owner))
-        for owner, name in ((running.Run, "set_up"), (passages.Passage, "of"), (passages.Saved, "read")):
+        for owner, name in (
+            (running.Run, "set_up"), (passages.Passage, "of"), (passages.Saved, "read"), (pairs.Pair, "set_up"),
+        ):
             self.assertIsInstance(vars(owner)[name], classmethod)
-        for name in ("state", "is_within"):
-            self.assertIsInstance(vars(running.Run)[name], property)
+        for owner, name in (
+            (running.Run, "state"), (running.Run, "is_within"), (pairs.Pair, "joint"), (pairs.Pair, "states"),
+        ):
+            self.assertIsInstance(vars(owner)[name], property)
 
     def test_attributes_are_set_on_each_object(self):
         library = libraries.Library(kinds.Kind("a"))
@@ -90,7 +116,9 @@ class InterfaceTest(unittest.TestCase):
             (passage, {"shape", "into", "keep", "save", "names", "again", "memo", "when"}),
             (passages.Passage.of(library["a"]), {"shape", "into", "keep", "save", "names", "again", "memo", "when"}),
             (passage >> passage, {"legs", "shape", "into"}), (passage.saved(()), {"passage", "fields"}),
-            (worlds.Callers(), {"times", "look", "methods", "fresh"}),
+            (worlds.Callers(), {"times", "look", "methods", "fresh"}), (pairs.Life(library["a"]), {"shape", "route"}),
+            (moments.Moments(passage), {"entries"}),
+            (keeping.KeptSets(library["a"]), {"entries", "good", "least", "needed"}),
         ):
             self.assertLessEqual(names, set(vars(thing)))
 
@@ -106,7 +134,10 @@ class LanguageTest(unittest.TestCase):
     def test_files(self):
         for path in self.files:
             self.assertEqual(".py", path.suffix)
-        for name in ("__init__", "errors", "kinds", "libraries", "texts", "running", "passages", "worlds"):
+        for name in (
+            "__init__", "errors", "kinds", "libraries", "texts", "running", "passages", "worlds", "pairs", "comparing",
+            "moments", "keeping",
+        ):
             self.assertIn(f"{name}.py", self.texts)
 
     def test_sizes(self):
@@ -147,7 +178,7 @@ class LanguageTest(unittest.TestCase):
                 for decorator in getattr(node, "decorator_list", []):
                     self.assertIn(ast.unparse(decorator), ("property", "classmethod"), place)
                 if isinstance(node, ast.ExceptHandler):
-                    self.assertIn(ast.unparse(node.type), ("NoForm", "CarriedError"), place)
+                    self.assertIn(ast.unparse(node.type), ("NoForm", "CarriedError", "NotNow"), place)
                 if isinstance(node, ast.Constant) and isinstance(node.value, str):
                     self.assertNotIn("%", node.value, place)
 
