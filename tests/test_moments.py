@@ -305,10 +305,9 @@ class AnyValueTest(MomentsCase):
                 self.assertIs(is_right, is_moments(route, thing), joints)
         # No passage is left, so joint worlds before which one is left are none.
         for left in (1, 2, None, -1, False):
-            for joints in (entries[0][1][1], entries[1][1][1], (more,)):
-                other = tuple((*joint[:3], left) for joint in joints)
-                thing = ((entries[0][0], ("alike", entries[0][1][1] + other)), entries[1])
-                self.assertIs(False, is_moments(route, thing))
+            joints = entries[1][1][1]
+            other = tuple((*joint[:3], left) for joint in joints)
+            self.assertIs(False, is_moments(route, (entries[0], (entries[1][0], ("alike", joints + other)))))
         shape = shape_in("a = none", "b = none", "def put(x):", "    self.a = x", "def turn():", "    self.b = self.a",
                          "def get():", "    return self.b", marks="")
         route = Passage(shape, keep=("b",))
